@@ -1,0 +1,1 @@
+"""Tiedanew: webs turned knot by knot, rings of chords, strings of letters."""

@@ -1,0 +1,1 @@
+"""Bits, and what all modules ask of values."""

@@ -1,0 +1,1 @@
+"""Webs, their turns and their cut ranks."""
