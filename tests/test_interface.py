@@ -17,6 +17,20 @@ FUNCTIONS = {
     "tiedanew.web.cuts": (
         "cut_table(web, lot)", "cut_rank(web, lot)", "cut_ranks(web)", "unlike_cut(one, other)",
         "square_of(web, lot)", "is_square(web, lot, value)"),
+    "tiedanew.split.splits": (
+        "is_split(web, value)", "splits(web)", "split_or_none(web)", "is_split_or_none(web, value)",
+        "is_unsplit(web)", "leaves(web)", "twins(web)", "parted(web, lot)", "joined_at(one, other, lot)"),
+    "tiedanew.split.partings": (
+        "do_cross(web, one, other)", "good_splits(web)", "split_count(web)", "parts(web)", "put_together(told)",
+        "are_parts(value)"),
+    "tiedanew.ring.rings": (
+        "is_ring(value)", "ends_of(ring, name)", "crossing(ring, name)", "web_of(ring)", "turned_ring(ring, name)",
+        "swung_ring(ring, name, near)", "left_out_ring(ring, name)", "turned_about(ring, by)", "mirrored(ring)",
+        "least_form(ring)", "renamed_ring(ring, order)", "rings_beside(one, other)", "rings_joined(one, other, lot)"),
+    "tiedanew.ring.marks": (
+        "marks_of(ring)", "sums_of(web)", "are_marks(web, value)", "marks_or_bar(web)", "is_marks_or_bar(web, value)",
+        "free_bits(web)", "exchanged_marks(web, marks, lot)", "opposite_marks(marks)",
+        "turned_marks(web, marks, knot)", "marks_left(marks, knot)"),
 }
 CONSTANTS = {
     "tiedanew.base.bits": {"MOST_BITS": 144, "MOST_ROWS": 1000},

@@ -1,0 +1,1 @@
+"""Rings of chords, and the marks of their ends."""

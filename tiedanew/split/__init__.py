@@ -1,0 +1,1 @@
+"""Splits of webs, and the parts into which webs fall."""
