@@ -156,6 +156,14 @@ def drawn_webs(many, least=5, most=10, seed=7):
     return [drawn_web(draw, draw.randint(least, most), draw.choice((0.2, 0.4, 0.6, 0.8))) for _ in range(many)]
 
 
+def in_one_piece(webs):
+    return [web for web in webs if len(slow_pieces(web)) == 1]
+
+
+def in_pieces(webs):
+    return [web for web in webs if len(slow_pieces(web)) > 1]
+
+
 def edge_webs():
     """The webs that the document names as edges."""
     sizes = (1, 2, 3, 4, 10)
@@ -179,6 +187,35 @@ def slow_turned(web, knot):
         if joined(web, low, knot) and joined(web, high, knot):
             ties ^= {frozenset((low, high))}
     return Web(web.knots, tuple(sorted(tuple(sorted(tie)) for tie in ties)))
+
+
+def slow_left_out(web, knot):
+    """The web without the knot, name by name."""
+    names = [other for other in range(web.knots) if other != knot]
+    ties = [(low, high) for low, high in pairs_of(len(names)) if joined(web, names[low], names[high])]
+    return Web(len(names), tuple(ties))
+
+
+def slow_behind(web, steps):
+    """The web behind steps, turned and left one by one."""
+    for word, knot in steps:
+        web = slow_turned(web, knot) if word == "turn" else slow_left_out(web, knot)
+    return web
+
+
+def slow_kin(web):
+    """All webs to which turns lead, turned again and again: the ties of each one, and a least row to it."""
+    rows, layer = {web.ties: ()}, [web]
+    while layer:
+        behind = []
+        for ahead in layer:
+            for knot in range(web.knots):
+                other = slow_turned(ahead, knot)
+                if other.ties not in rows:
+                    rows[other.ties] = rows[ahead.ties] + (knot,)
+                    behind.append(other)
+        layer = behind
+    return rows
 
 
 def slow_span(rows, many):

@@ -31,10 +31,25 @@ FUNCTIONS = {
         "marks_of(ring)", "sums_of(web)", "are_marks(web, value)", "marks_or_bar(web)", "is_marks_or_bar(web, value)",
         "free_bits(web)", "exchanged_marks(web, marks, lot)", "opposite_marks(marks)",
         "turned_marks(web, marks, knot)", "marks_left(marks, knot)"),
+    "tiedanew.ring.found": (
+        "walk_of(web)", "ring_by(web, marks)", "are_ring_marks(web, value)", "ring_marks(web)",
+        "marks_between(web, one, other)", "is_marks_between(web, one, other, value)"),
+    "tiedanew.ring.answers": (
+        "ring_or_bar(web)", "is_ring_or_bar(web, value)", "has_ring(web)", "forms_of(web)", "star_ring(many)",
+        "tied_ring(many)"),
+    "tiedanew.ring.flips": (
+        "is_cut(ring, value)", "cuts(ring)", "share_of(ring, cut)", "flipped(ring, cut, word)", "rings_of(web)",
+        "flips_or_pair(one, other)", "is_flips_or_pair(one, other, value)"),
+    "tiedanew.lesser.steps": (
+        "is_steps(web, value)", "web_behind(web, steps)", "staying(web, steps)", "steps_ways(web, knot)",
+        "ways_webs(web, knot)", "way_of(web, row, knot)", "lesser_web(web, lot, ways)"),
 }
 CONSTANTS = {
     "tiedanew.base.bits": {"MOST_BITS": 144, "MOST_ROWS": 1000},
     "tiedanew.web.webs": {"MOST_KNOTS": 10, "MOST_TURNS": 200},
+    "tiedanew.ring.found": {"MOST_LISTED": 5},
+    "tiedanew.ring.answers": {"MOST_LISTED": 5},
+    "tiedanew.lesser.steps": {"MOST_STEPS": 200},
 }
 
 

@@ -4,8 +4,8 @@ import random
 import unittest
 
 from tests.helper import (
-    PATH, ROUND, STRAYS, WHEEL, Case, all_webs, among, bent, drawn_webs, edge_webs, full_web, lots, pairs_of,
-    path_web, round_web, slow_pieces, star_web, webs_up_to)
+    PATH, ROUND, STRAYS, WHEEL, Case, all_webs, among, bent, drawn_webs, edge_webs, full_web, in_one_piece, in_pieces,
+    lots, pairs_of, path_web, round_web, slow_pieces, star_web, webs_up_to)
 from tests.test_cuts import NO_LOTS
 from tests.test_splits import slow_splits
 from tests.test_webs import NO_WEBS
@@ -20,14 +20,6 @@ ROW_PARTS = (("star", ((0, 0), (0, 1), (1, 0)), ((0, 1), (1, 2))),
              ("star", ((0, 2), (1, 0), (1, 1)), ((0, 1), (0, 2))),
              ("star", ((0, 3), (0, 4), (1, 1)), ((0, 1), (0, 2))))
 WORDS = ("tied", "star", "unsplit")
-
-
-def in_one_piece(webs):
-    return [web for web in webs if len(slow_pieces(web)) == 1]
-
-
-def in_pieces(webs):
-    return [web for web in webs if len(slow_pieces(web)) > 1]
 
 
 def drawn_ties(draw, many):

@@ -6,20 +6,13 @@ from itertools import permutations
 
 from tests.helper import (
     DEEP, PATH, ROUND, STAR, STRAYS, Case, all_webs, among, bent, drawn_webs, edge_webs, full_web, is_knot, joined,
-    lots, pairs_of, path_web, round_web, slow_near, slow_pieces, slow_turned, star_web, webs_up_to)
+    lots, pairs_of, path_web, round_web, slow_left_out, slow_near, slow_pieces, slow_turned, star_web, webs_up_to)
 from tiedanew.errors import InvalidLot, InvalidNumber, InvalidOperation, InvalidWeb, Refused, TooMany
 from tiedanew.web.webs import (
     Web, beside, left_out, lot_web, near, pieces, renamed, swung, table_of, turned, turned_by)
 
 NO_WEBS = tuple(value for value in STRAYS if not isinstance(value, Web)) + (DEEP, (PATH,), [PATH], {0: PATH})
 TRIED = list(webs_up_to(4)) + drawn_webs(40) + edge_webs()
-
-
-def slow_left_out(web, knot):
-    """The web without the knot, name by name."""
-    names = [other for other in range(web.knots) if other != knot]
-    ties = [(low, high) for low, high in pairs_of(len(names)) if joined(web, names[low], names[high])]
-    return Web(len(names), tuple(ties))
 
 
 class Examples(Case):

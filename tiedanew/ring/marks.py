@@ -7,7 +7,7 @@ from tiedanew.ring.rings import check_ring, ends_of
 from tiedanew.web.webs import MOST_KNOTS, check_knot, check_lot, check_web, masks_of
 
 
-def _has_marks_form(value, many):
+def has_marks_form(value, many):
     """Whether the value is marks, right or not, for so many knots."""
     if not isinstance(value, tuple) or len(value) != many:
         return False
@@ -15,12 +15,13 @@ def _has_marks_form(value, many):
 
 
 def _check_marks(value):
-    if not isinstance(value, tuple) or not 1 <= len(value) <= MOST_KNOTS or not _has_marks_form(value, len(value)):
+    if not isinstance(value, tuple) or not 1 <= len(value) <= MOST_KNOTS or not has_marks_form(value, len(value)):
         raise InvalidMarks("marks are n tuples of n bits, 0 at equal places")
 
 
-def _check_marks_for(web, value):
-    if not _has_marks_form(value, web.knots):
+def check_marks_for(web, value):
+    """InvalidMarks unless the value is marks, right or not, of as many knots as the web has."""
+    if not has_marks_form(value, web.knots):
         raise InvalidMarks("marks are a tuple of bits for each knot, 0 at equal places")
 
 
@@ -62,7 +63,7 @@ def _is_right(marks, members, bit):
 def are_marks(web, value):
     """Whether the value is right marks for the web."""
     check_web(web)
-    if not _has_marks_form(value, web.knots):
+    if not has_marks_form(value, web.knots):
         return False
     return all([_is_right(value, members, bit) for members, bit in sums_of(web)])
 
@@ -126,7 +127,7 @@ def _turned_where(marks, does_turn):
 def exchanged_marks(web, marks, lot):
     """The marks behind first and last ends exchanged for the chords of the lot."""
     check_web(web)
-    _check_marks_for(web, marks)
+    check_marks_for(web, marks)
     check_lot(web, lot)
     masks = masks_of(web)
     # Each of both knots can turn the bit: the first one always, the second one if they are tied.
@@ -155,7 +156,7 @@ def _does_turn(masks, row, knot, v, w):
 def turned_marks(web, marks, knot):
     """The marks of the turned ring, of any marks."""
     check_web(web)
-    _check_marks_for(web, marks)
+    check_marks_for(web, marks)
     check_knot(web, knot)
     masks = masks_of(web)
     return _turned_where(marks, lambda v, w: _does_turn(masks, marks[knot], knot, v, w))

@@ -1,15 +1,9 @@
 """Good splits, and the parts into which a web in one piece falls along them."""
 
 from tiedanew.base.checks import are_pairs, is_below, number_with
-from tiedanew.errors import InvalidOperation, Refused
+from tiedanew.errors import InvalidOperation
 from tiedanew.split.splits import is_split, splits
-from tiedanew.web.webs import MOST_KNOTS, Web, beyond_lot, check_lot, check_web, masks_of, pieces
-
-
-def _check_one_piece(web):
-    """InvalidWeb unless it is a web, then Refused unless it is in one piece."""
-    if len(pieces(web)) > 1:
-        raise Refused(("pieces",))
+from tiedanew.web.webs import MOST_KNOTS, Web, beyond_lot, check_lot, check_one_piece, check_web, masks_of, pieces
 
 
 def _far_side(web, lot):
@@ -42,7 +36,7 @@ def do_cross(web, one, other):
 
 def good_splits(web):
     """The ascending tuple of the splits that no split crosses."""
-    _check_one_piece(web)
+    check_one_piece(web)
     found = splits(web)
     sides = [_far_side(web, lot) for lot in found]
     return tuple([lot for lot, side in zip(found, sides) if not _is_crossed(side, sides)])
@@ -50,7 +44,7 @@ def good_splits(web):
 
 def split_count(web):
     """How many splits there are."""
-    _check_one_piece(web)
+    check_one_piece(web)
     return len(splits(web))
 
 

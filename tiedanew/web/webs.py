@@ -55,6 +55,17 @@ def check_knot(web, knot):
         raise InvalidNumber(knot)
 
 
+def is_row_of_turns(web, value):
+    """Whether the value is a tuple of at most 200 knots of the web."""
+    return are_below(value, web.knots) and len(value) <= MOST_TURNS
+
+
+def check_row(web, row):
+    """InvalidOperation unless this is a tuple of at most 200 knots of the web."""
+    if not is_row_of_turns(web, row):
+        raise InvalidOperation("a row of turns is a tuple of at most 200 knots of the web")
+
+
 def check_lot(web, lot):
     """InvalidLot unless this is an ascending tuple of knots of the web."""
     if not is_ascending(lot, web.knots):
@@ -68,6 +79,19 @@ def masks_of(web):
         masks[low] += 1 << high
         masks[high] += 1 << low
     return masks
+
+
+def turned_masks(masks, knot):
+    """The masks of the web behind a turn at the knot: each one near it changes its ties to the others near it."""
+    close = masks[knot]
+    return tuple([mask ^ close ^ (1 << v) if close >> v & 1 else mask for v, mask in enumerate(masks)])
+
+
+def web_of_masks(masks):
+    """The web back from its masks."""
+    many = len(masks)
+    ties = [(low, high) for low in range(many) for high in range(low + 1, many) if masks[low] >> high & 1]
+    return Web(many, tuple(ties))
 
 
 def beyond_lot(many, lot):
@@ -103,8 +127,7 @@ def turned(web, knot):
 def turned_by(web, row):
     """The web behind the turns of the row, the first one ahead."""
     check_web(web)
-    if not are_below(row, web.knots) or len(row) > MOST_TURNS:
-        raise InvalidOperation("a row of turns is a tuple of at most 200 knots of the web")
+    check_row(web, row)
     behind = web
     for knot in row:
         behind = turned(behind, knot)
@@ -175,3 +198,9 @@ def pieces(web):
     check_web(web)
     masks = masks_of(web)
     return tuple(sorted(set([_piece_of(masks, knot) for knot in range(web.knots)])))
+
+
+def check_one_piece(web):
+    """InvalidWeb unless it is a web, then Refused unless it is in one piece."""
+    if len(pieces(web)) > 1:
+        raise Refused(("pieces",))

@@ -1,0 +1,1 @@
+"""Lesser webs behind steps: rings or cores, orders or rounds of five."""
