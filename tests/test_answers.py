@@ -14,10 +14,10 @@ from tiedanew.errors import InvalidNumber, InvalidWeb, TooMany
 from tiedanew.ring import answers
 from tiedanew.ring.answers import forms_of, has_ring, is_ring_or_bar, ring_or_bar, star_ring, tied_ring
 from tiedanew.ring.marks import marks_or_bar
-from tiedanew.ring.rings import mirrored, renamed_ring, turned_ring
+from tiedanew.ring.rings import mirrored, turned_ring
 from tiedanew.split.partings import parts
 from tiedanew.split.splits import is_unsplit, joined_at
-from tiedanew.web.webs import Web, beside, left_out, lot_web, turned, turned_by
+from tiedanew.web.webs import Web, beside, left_out, turned, turned_by
 
 SIXES = [web for web in drawn_webs(60, least=6, most=6, seed=901)]
 GREAT = drawn_webs(80, least=6, seed=902) + drawn_great_webs(30, 903) + edge_webs() + [
@@ -115,7 +115,8 @@ class EitherOr(Case):
 
     def test_exactly_if_each_part_has_one(self):
         words = []
-        for web in in_one_piece(GREAT + [joined_at(WHEEL, STAR, (0, 1, 2, 4, 6)), joined_at(PRISM, ROUND, (0, 2, 4, 6, 8))]):
+        barred = [joined_at(WHEEL, STAR, (0, 1, 2, 4, 6)), joined_at(PRISM, ROUND, (0, 2, 4, 6, 8))]
+        for web in in_one_piece(GREAT + barred):
             told = [has_ring(Web(len(ends), ties)) for _, ends, ties in parts(web)]
             self.judged(all(told), has_ring, web)
             words += [all(told)] if len(told) > 1 else []
@@ -259,7 +260,6 @@ class NotTrue(Case):
         self.assertEqual(len(other.ties), len(WHEEL.ties))
         self.judged(True, has_ring, other)
         self.judged(False, has_ring, WHEEL)
-        self.assertEqual(slow_web(renamed_ring(star_ring(3), (1, 0, 2))), lot_web(PATH, (0, 1, 2)))
 
 
 if __name__ == "__main__":

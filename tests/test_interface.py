@@ -43,6 +43,20 @@ FUNCTIONS = {
     "tiedanew.lesser.steps": (
         "is_steps(web, value)", "web_behind(web, steps)", "staying(web, steps)", "steps_ways(web, knot)",
         "ways_webs(web, knot)", "way_of(web, row, knot)", "lesser_web(web, lot, ways)"),
+    "tiedanew.lesser.cores": (
+        "core(word)", "core_word(web)", "least_word(web)", "is_least(web)", "ring_or_core(web)",
+        "is_ring_or_core(web, value)"),
+    "tiedanew.lesser.twigs": (
+        "loose_rows(web)", "grown(web, word, other)", "is_order(web, value)", "web_of_order(order)",
+        "first_order(web)", "bundles(order)", "order_or_five(web)", "is_order_or_five(web, value)"),
+    "tiedanew.kin.sums": (
+        "is_member(one, other, value)", "is_good(value)", "member_basis(one, other)",
+        "is_member_basis(one, other, value)", "kin_or_bar(one, other)", "is_kin_or_bar(one, other, value)",
+        "are_kin(one, other)"),
+    "tiedanew.kin.members": (
+        "member_of(web, row)", "behind_member(one, other)", "back_member(member)", "letters_of(member)",
+        "are_free(web, letters)", "held_or_free(web, letters)", "is_held_or_free(web, letters, value)",
+        "led_by(web, letters)"),
 }
 CONSTANTS = {
     "tiedanew.base.bits": {"MOST_BITS": 144, "MOST_ROWS": 1000},
@@ -50,6 +64,8 @@ CONSTANTS = {
     "tiedanew.ring.found": {"MOST_LISTED": 5},
     "tiedanew.ring.answers": {"MOST_LISTED": 5},
     "tiedanew.lesser.steps": {"MOST_STEPS": 200},
+    "tiedanew.lesser.cores": {"CORES": ("five", "six", "seven"), "MOST_TOLD": 60},
+    "tiedanew.lesser.twigs": {"WORDS": ("alone", "leaf", "tied", "untied")},
 }
 
 
@@ -70,7 +86,7 @@ class Interface(unittest.TestCase):
             module = importlib.import_module(name)
             for constant, value in told.items():
                 self.assertEqual(getattr(module, constant), value)
-                self.assertIs(type(getattr(module, constant)), int)
+                self.assertIs(type(getattr(module, constant)), type(value))
 
     def test_the_class(self):
         self.assertEqual(Web.__module__, "tiedanew.web.webs")

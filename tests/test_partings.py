@@ -5,7 +5,7 @@ import unittest
 
 from tests.helper import (
     PATH, ROUND, STRAYS, WHEEL, Case, all_webs, among, bent, drawn_webs, edge_webs, full_web, in_one_piece, in_pieces,
-    lots, pairs_of, path_web, round_web, slow_pieces, star_web, webs_up_to)
+    lots, pairs_of, path_web, round_web, star_web, webs_up_to)
 from tests.test_cuts import NO_LOTS
 from tests.test_splits import slow_splits
 from tests.test_webs import NO_WEBS

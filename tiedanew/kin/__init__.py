@@ -1,0 +1,1 @@
+"""Which webs are kin, and the members of bits that tell it."""
