@@ -285,6 +285,8 @@ class FlipsOrPair(Case):
         for value in wrong:
             if not among(value, [right]):
                 self.judged(False, is_flips_or_pair, SIDE, NEST, value)
+        for word in NO_WORDS:
+            self.judged(False, is_flips_or_pair, SIDE, SIDE, ("flips", (((0, 0, 0, 0), word),)))
         other, pair = (0, 1, 0, 1, 2, 2), ("pair", 0, 1)
         self.judged(True, is_flips_or_pair, SIDE, other, pair)
         wrong = STRAYS + tuple(bent(pair)) + (

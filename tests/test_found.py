@@ -411,7 +411,7 @@ class Between(Case):
         self.assertIn(((1, 3), 1), right)
         wrong = STRAYS + tuple(bent(((1, 3), 1))) + (
             ((3, 1), 1), ((1, 1, 3), 1), ((1, 3),), (1, (1, 3)), ((1, 3), 1, 0), [(1, 3), 1], ((1, 3), 3), ((1, 3), -1),
-            ((1, 3), True), ((True, 3), 1), ((1, 3, 5), 1), ((-4, 3), 1), ((1, 3), 0))
+            ((1, 3), 2), ((1, 3), True), ((True, 3), 1), ((1, 3, 5), 1), ((-4, 3), 1), ((1, 3), 0))
         for value in wrong:
             if not among(value, right):
                 self.judged(False, is_marks_between, web, one, other, value)

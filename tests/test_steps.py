@@ -326,6 +326,7 @@ class Refusals(Case):
                 self.refused_number(InvalidNumber, steps_ways, PATH, value, at=1)
                 self.refused_number(InvalidNumber, ways_webs, PATH, value, at=1)
                 self.refused_number(InvalidNumber, way_of, PATH, (0, 1), value, at=2)
+                self.refused_number(InvalidNumber, way_of, PATH, (), value, at=2)
         for function in (steps_ways, ways_webs):
             self.refused_number(InvalidNumber, function, Web(1, ()), 1, at=1)
             self.refused(Refused, function, Web(1, ()), 0, kept=("reason", ("last",)))

@@ -412,6 +412,18 @@ class Judge(Case):
                     self.judged(False, is_kin_or_bar, one, other, ("none", (0, 1, 2, 3, 4), value))
         self.assertGreater(found, 20)
 
+    def test_a_piece_of_both(self):
+        """A lot that is a piece of just one of them, or of none, is none, whatever basis is told."""
+        tried = 0
+        for one, other in list(product(all_webs(3), repeat=2)) + [(WAY, Web(4, ((0, 1), (2, 3)))), (Web(4, ()), STAR)]:
+            for lot in lots(one.knots, 1):
+                if lot not in slow_pieces(one) or lot not in slow_pieces(other):
+                    basis = member_basis(lot_web(one, lot), lot_web(other, lot))
+                    few = [sum_of(pick, len(lot)) for size in (1, 2) for pick in combinations(basis, size)]
+                    tried += all(1 not in bits_of(member) for member in few)
+                    self.judged(False, is_kin_or_bar, one, other, ("none", lot, basis))
+        self.assertGreater(tried, 10)
+
     def test_bases_of_kin_webs_bar_nothing(self):
         """A basis without a good one does not bar, if a sum of two is good."""
         other = turned(WAY, 1)

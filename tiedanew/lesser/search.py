@@ -5,9 +5,7 @@ from tiedanew.web.webs import masks_of, turned_masks
 
 
 def ways_from(web):
-    """The steps of all ways to leave a knot out, none for the last one."""
-    if web.knots == 1:
-        return []
+    """The steps of all ways to leave a knot out, of a web of two knots or more."""
     return [steps for knot in range(web.knots) for steps in steps_ways(web, knot)]
 
 

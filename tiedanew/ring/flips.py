@@ -10,7 +10,7 @@ MOST_FLIPS = 200
 WORDS = ("reverse", "exchange", "both")
 
 
-def _open_ahead(ring):
+def _begun_ahead(ring):
     """For each place the number that has a bit 1 for each chord with just one end ahead of it."""
     found = [0]
     for name in ring:
@@ -21,8 +21,8 @@ def _open_ahead(ring):
 def _is_cut(ring, value):
     if not are_below(value, len(ring) + 1) or len(value) != 4 or list(value) != sorted(value):
         return False
-    # What is open at just one border of a stretch has one end in it.
-    border = _open_ahead(ring)
+    # A chord that is begun at just one border of a stretch has one end in it.
+    border = _begun_ahead(ring)
     a, b, c, d = value
     return border[a] ^ border[b] ^ border[c] ^ border[d] == 0
 
@@ -34,7 +34,7 @@ def is_cut(ring, value):
 
 
 def _cuts(ring):
-    border, many = _open_ahead(ring), len(ring) + 1
+    border, many = _begun_ahead(ring), len(ring) + 1
     found = []
     for a in range(many):
         for b in range(a, many):

@@ -111,7 +111,6 @@ def ring_marks(web):
 
 
 def _check_both_right(web, one, other):
-    check_web(web)
     if not are_marks(web, one) or not are_marks(web, other):
         raise InvalidMarks("these are no right marks for the web")
     check_one_piece(web)
