@@ -241,10 +241,10 @@ class EitherOr(Case):
                 by_web.setdefault(slow_web(ring).ties + (many,), set()).update(slow_ring_marks(ring))
         for web in SMALL:
             right = by_web[web.ties + (web.knots,)]
-            if web.knots < 4 or web in SMALL[6::5] + [STAR]:
-                for marks in all_marks(web.knots):
-                    self.judged(marks in right, are_ring_marks, web, marks)
-                    self.assertEqual(ring_by(web, marks)[0] == "ring", marks in right)
+            for marks in all_marks(web.knots):
+                self.judged(marks in right, are_ring_marks, web, marks)
+            for marks in list(all_marks(web.knots))[::13]:
+                self.assertEqual(ring_by(web, marks)[0] == "ring", marks in right)
             self.same(self.told(ring_marks, web), tuple(sorted(right)))
 
     def test_the_ring_has_the_web_and_the_marks(self):
