@@ -4,6 +4,7 @@ import importlib
 import inspect
 import unittest
 
+from tiedanew.tour.nets import Net
 from tiedanew.web.webs import Web
 
 FUNCTIONS = {
@@ -57,6 +58,19 @@ FUNCTIONS = {
         "member_of(web, row)", "behind_member(one, other)", "back_member(member)", "letters_of(member)",
         "are_free(web, letters)", "held_or_free(web, letters)", "is_held_or_free(web, letters, value)",
         "led_by(web, letters)"),
+    "tiedanew.kin.classes": (
+        "choice_count(web)", "self_count(web)", "kin_count(web)", "kin_webs(web)", "least_kin(web)",
+        "are_all_kin(web, value)", "named_kin(one, other)", "is_named_kin(one, other, value)"),
+    "tiedanew.string.lots": (
+        "product_of(one, other)", "does_commute(one, other)", "lot_of(web)", "is_full(value)", "form_of(full)",
+        "are_same(full, other)", "within(full, lot)", "exchanged(full, changes)", "free_or_string(full, free)",
+        "is_free_or_string(full, free, value)", "web_by(full, free)", "web_in(full)", "is_web_in(full, value)"),
+    "tiedanew.string.told": (
+        "told_at(full, place, letter)", "told_by(full, tells)", "sure_of(full, tells)", "outcome_count(full, tells)",
+        "web_told(web, knot, letter)", "is_web_told(web, knot, letter, value)", "tells_for(web, lesser, lot)",
+        "is_tells_for(web, lesser, lot, value)"),
+    "tiedanew.tour.nets": (
+        "net_of(ring)", "ring_of(net, tour)", "is_tour(net, value)", "tour_of(net)", "turned_tour(net, tour, knot)"),
 }
 CONSTANTS = {
     "tiedanew.base.bits": {"MOST_BITS": 144, "MOST_ROWS": 1000},
@@ -66,6 +80,10 @@ CONSTANTS = {
     "tiedanew.lesser.steps": {"MOST_STEPS": 200},
     "tiedanew.lesser.cores": {"CORES": ("five", "six", "seven"), "MOST_TOLD": 60},
     "tiedanew.lesser.twigs": {"WORDS": ("alone", "leaf", "tied", "untied")},
+}
+CLASSES = {
+    "tiedanew.web.webs": (Web, ("knots", "ties"), ("__init__", "__eq__", "__str__", "knots", "ties")),
+    "tiedanew.tour.nets": (Net, ("knots", "lines"), ("__init__", "__eq__", "knots", "lines", "is_led")),
 }
 
 
@@ -88,11 +106,16 @@ class Interface(unittest.TestCase):
                 self.assertEqual(getattr(module, constant), value)
                 self.assertIs(type(getattr(module, constant)), type(value))
 
-    def test_the_class(self):
-        self.assertEqual(Web.__module__, "tiedanew.web.webs")
-        self.assertEqual(list(inspect.signature(Web).parameters), ["knots", "ties"])
-        for name in ("__init__", "__eq__", "__str__", "knots", "ties"):
-            self.assertIn(name, Web.__dict__)
+    def test_the_classes(self):
+        for name, (shape, arguments, told) in CLASSES.items():
+            self.assertEqual(shape.__module__, name)
+            self.assertEqual(list(inspect.signature(shape).parameters), list(arguments))
+            for method in told:
+                self.assertIn(method.partition("(")[0], shape.__dict__)
+                if method.endswith(")"):
+                    function = shape.__dict__[method.partition("(")[0]]
+                    parameters = ", ".join(list(inspect.signature(function).parameters)[1:])
+                    self.assertEqual(f"{function.__name__}({parameters})", method)
 
 
 if __name__ == "__main__":

@@ -1,0 +1,1 @@
+"""Strings of letters, their full lots, and letters told."""

@@ -1,0 +1,1 @@
+"""Nets of knots with four ends, and their tours."""
