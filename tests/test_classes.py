@@ -5,7 +5,7 @@ import unittest
 from itertools import permutations, product
 
 from tests.helper import (
-    PATH, ROUND, STAR, STRAYS, WHEEL, Case, all_webs, among, bent, drawn_web, drawn_webs, edge_webs, full_web,
+    PATH, ROUND, STAR, STRAYS, WHEEL, Case, all_webs, bent, drawn_web, drawn_webs, edge_webs, full_web,
     path_web, slow_kin, slow_left_out, slow_near, slow_pieces, slow_turned, star_web, webs_up_to)
 from tests.test_members import all_letters, told_strings
 from tests.test_sums import QUADRUPLES, bits_of, drawn_kin, drawn_renamed, slow_is_member, span_of

@@ -4,6 +4,7 @@ import importlib
 import inspect
 import unittest
 
+from tiedanew.bench.bench import Bench
 from tiedanew.tour.nets import Net
 from tiedanew.web.webs import Web
 
@@ -71,6 +72,19 @@ FUNCTIONS = {
         "is_tells_for(web, lesser, lot, value)"),
     "tiedanew.tour.nets": (
         "net_of(ring)", "ring_of(net, tour)", "is_tour(net, value)", "tour_of(net)", "turned_tour(net, tour, knot)"),
+    "tiedanew.tour.tours": (
+        "round_count(net, tour, choice)", "turns_to(net, tour, other)", "is_turns_to(net, tour, other, value)",
+        "tour_count(net)", "all_tours(net)", "turns_or_pair(ring, other)", "is_turns_or_pair(ring, other, value)",
+        "signed_table(ring)", "line_table(net)", "led_count(net)"),
+    "tiedanew.count.lessened": (
+        "lot_nullity(web, lot)", "choice_nullity(web, choices)", "lot_counts(web)", "choice_counts(web)",
+        "lessened(web, knot, other)", "lessened_thrice(web, knot, other)", "lot_value(web, number)",
+        "choice_value(web, number)", "even_lots(web)", "free_choices(web)"),
+    "tiedanew.text.texts": (
+        "web_text(web)", "read_web(text)", "ring_text(ring)", "read_ring(text)", "marks_text(marks)",
+        "read_marks(text)", "steps_text(steps)", "read_steps(text)", "strings_text(lot)", "read_strings(text)",
+        "net_text(net)", "read_net(text)"),
+    "tiedanew.judge.claims": ("is_claim(value)", "opposite(claim)", "takes(claim, paper)", "answered(claim)"),
 }
 CONSTANTS = {
     "tiedanew.base.bits": {"MOST_BITS": 144, "MOST_ROWS": 1000},
@@ -80,10 +94,18 @@ CONSTANTS = {
     "tiedanew.lesser.steps": {"MOST_STEPS": 200},
     "tiedanew.lesser.cores": {"CORES": ("five", "six", "seven"), "MOST_TOLD": 60},
     "tiedanew.lesser.twigs": {"WORDS": ("alone", "leaf", "tied", "untied")},
+    "tiedanew.tour.tours": {"MOST_TRIED": 6},
+    "tiedanew.count.lessened": {"MOST_CHOSEN": 8, "MOST_FREE": 6},
+    "tiedanew.text.texts": {"MOST_TEXT": 20000, "MOST_STEPS": 200},
+    "tiedanew.bench.bench": {"MOST_WEBS": 12, "MOST_NAME": 8},
 }
 CLASSES = {
     "tiedanew.web.webs": (Web, ("knots", "ties"), ("__init__", "__eq__", "__str__", "knots", "ties")),
     "tiedanew.tour.nets": (Net, ("knots", "lines"), ("__init__", "__eq__", "knots", "lines", "is_led")),
+    "tiedanew.bench.bench": (Bench, (), (
+        "put(name, web)", "drop(name)", "turn(name, knot)", "swing(name, one, two)", "leave(name, knot)",
+        "rename(name, order)", "unite(new, name, other)", "undo()", "redo()", "web_of(name)", "ask(name, other)",
+        "known(name, other)", "names", "__contains__", "__len__", "__eq__", "__str__")),
 }
 
 

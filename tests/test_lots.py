@@ -23,7 +23,8 @@ NO_STRINGS = STRAYS + (
     [["X"]], Web(1, ()), ("XX", "ZZ"))
 NO_FULL = tuple(value for value in STRAYS) + (
     "X", "XX", ["X"], ["XX", "ZZ"], ("I",), ("XX",), ("X", "Z"), ("XX", "XX"), ("XX", "II"), ("XX", "ZI"), ("XX", "XY"),
-    ("XX", "ZZ", "YY"), ("XX", "zz"), ("XX", None), ("XX", ("Z", "Z")), ("XX", ["Z", "Z"]), ("XX", "ZZ "), ("XX", "ZZZ"),
+    ("XX", "ZZ", "YY"), ("XX", "zz"), ("XX", None), ("XX", ("Z", "Z")), ("XX", ["Z", "Z"]), ("XX", "ZZ "), ("XX",
+    "ZZZ"),
     ("XXI", "ZZI", "YYI"), ("XXI", "ZZI"), (("X",),), ("X", ""), ("",), {"X": 1}, (1,), (True,), DEEP, ("A",),
     ("XZI", "ZXZ", "IZX", "III"), tuple("I" * k + "X" + "I" * (10 - k) for k in range(11)), (LINE,), (b"X",))
 

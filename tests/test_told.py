@@ -403,7 +403,8 @@ class Refusals(Case):
                 self.refused(InvalidOperation, is_tells_for, web, lesser, lot, paper)
 
     def test_more_than_four(self):
-        for web, lot in ((full_web(10), (0, 1, 2, 3, 9)), (Web(6, ()), (0, 1, 2, 3, 4)), (full_web(10), tuple(range(9)))):
+        for web, lot in ((full_web(10), (0, 1, 2, 3, 9)), (Web(6, ()), (0, 1, 2, 3, 4)), (full_web(10),
+                tuple(range(9)))):
             lesser = Web(web.knots - len(lot), ())
             self.refused(TooMany, tells_for, web, lesser, lot, kept=("limit", 4))
             for paper in (None, "X" * len(lot) + "I", 0):

@@ -7,7 +7,7 @@ from tiedanew.web.webs import beyond_lot, check_knot, check_lot, check_row, chec
 MOST_STEPS = 200
 
 
-def _is_step(value, many):
+def is_step(value, many):
     """Whether the value is a turn at a knot of so many, or such a knot left out."""
     if not isinstance(value, tuple) or len(value) != 2:
         return False
@@ -21,7 +21,7 @@ def is_steps(web, value):
         return False
     many = web.knots
     for step in value:
-        if not _is_step(step, many):
+        if not is_step(step, many):
             return False
         if step[0] == "leave":
             many -= 1

@@ -14,7 +14,8 @@ def has_marks_form(value, many):
     return all([are_bits(row, many) and row[knot] == 0 for knot, row in enumerate(value)])
 
 
-def _check_marks(value):
+def check_marks(value):
+    """InvalidMarks unless the value is marks, right or not, of 1 to 10 knots."""
     if not isinstance(value, tuple) or not 1 <= len(value) <= MOST_KNOTS or not has_marks_form(value, len(value)):
         raise InvalidMarks("marks are n tuples of n bits, 0 at equal places")
 
@@ -136,7 +137,7 @@ def exchanged_marks(web, marks, lot):
 
 def opposite_marks(marks):
     """All bits turned but those at equal places."""
-    _check_marks(marks)
+    check_marks(marks)
     return _turned_where(marks, lambda v, w: True)
 
 
@@ -164,7 +165,7 @@ def turned_marks(web, marks, knot):
 
 def marks_left(marks, knot):
     """The marks without the knot."""
-    _check_marks(marks)
+    check_marks(marks)
     if not is_below(knot, len(marks)):
         raise InvalidNumber(knot)
     if len(marks) == 1:

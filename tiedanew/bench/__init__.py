@@ -1,0 +1,1 @@
+"""A bench with webs under names."""

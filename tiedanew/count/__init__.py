@@ -1,0 +1,1 @@
+"""Counts of lots and choices by their nullities."""

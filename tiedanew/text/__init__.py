@@ -1,0 +1,1 @@
+"""Texts of webs, rings, marks, steps, full lots and nets."""
