@@ -310,6 +310,8 @@ class FirstWrongLine(Case):
                 self.refused(InvalidText, read, text + "x")
             self.refused(ParseError, read, "\n" * 20000, kept=("spot", 0))
         self.refused(ParseError, read_web, "knots 3\n" + "y" * 19992, kept=("spot", 1))
+        for sign in map(chr, range(32, 127)):
+            self.refused(ParseError, read_web, "knots 3\n" + sign + "\n", kept=("spot", 1))
         self.refused(ParseError, read_steps, "turn 1\n" * 2857 + "\n", kept=("spot", 200))
 
 

@@ -231,12 +231,16 @@ class ThreeWays(Case):
                 self.assertGreater(found, 0)
 
     def test_other_webs(self):
+        """Also kin ones, to whose full lots changes lead: just one web is left."""
+        kin = 0
         for letter, left in zip("ZYX", slow_three(PATH, 1)):
+            stays = slow_told(slow_lot(PATH), "I" + letter + "II")
             for web in all_webs(3):
-                for changes in (("XYZ",) * 3, web_told(PATH, 1, letter)[0], ("YXZ", "XYZ", "YXZ")):
-                    right = web == left and set(slow_exchanged(
-                        slow_told(slow_lot(PATH), "I" + letter + "II"), changes)) == slow_span(slow_lot(web))
-                    self.judged(right, is_web_told, PATH, 1, letter, (changes, web))
+                for changes in product(CHANGES, repeat=3):
+                    leads = set(slow_exchanged(stays, changes)) == slow_span(slow_lot(web))
+                    kin += leads and web != left
+                    self.judged(leads and web == left, is_web_told, PATH, 1, letter, (changes, web))
+        self.assertGreater(kin, 0)
 
     def test_wrong_papers(self):
         for letter in "XYZ":

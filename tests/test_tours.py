@@ -291,7 +291,8 @@ class Rings(Case):
                 ("pair",), ("turns",), ("pair", 0, 0), ("pair", (0,)), ("pair", (0, 0, 0)), ("pair", [0, 0]),
                 ("pair", None), ("turns", None), ("turns", [0]), ("turns", (99,)), ("turns", "0"), right[::-1],
                 right + (0,), list(right), (right,), right[1], ("turn", right[1]), ("pair", ring), ("turns", (0, 99)),
-                ("pair", (1, 0)), ("pair", (0, True)), ("pair", ((0, 0),)))
+                ("pair", (1, 0)), ("pair", (0, True)), ("pair", ((0, 0),)),
+                ("turns", (len(ring) // 2,)), ("pair", (0, len(ring) // 2)), ("pair", ([0], 0)))
             for value in wrong:
                 if not among(value, [right]):
                     self.judged(False, is_turns_or_pair, ring, other, value)

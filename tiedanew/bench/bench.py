@@ -1,6 +1,6 @@
 """A bench with webs under names, and answers that are kept."""
 
-from tiedanew.errors import InvalidOperation, InvalidText, NothingToUndo, TooMany, UnknownName
+from tiedanew.errors import InvalidText, NothingToUndo, TooMany, UnknownName
 from tiedanew.kin.sums import is_kin_or_bar, kin_or_bar
 from tiedanew.web.webs import beside, check_web, left_out, renamed, swung, turned
 
@@ -106,18 +106,16 @@ class Bench:
         """The kept answer if it is right for both webs as they are now, else None."""
         one, two = self._web_under(name), self._web_under(other)
         answer = self._answers.get((name, other))
-        if answer is None or one.knots != two.knots or not is_kin_or_bar(one, two, answer):
+        if one.knots != two.knots or not is_kin_or_bar(one, two, answer):
             return None
         return answer
 
     def ask(self, name, other):
         """The kept answer if it is right, else a new one of `kin_or_bar`, which is kept."""
-        one, two = self._web_under(name), self._web_under(other)
-        if one.knots != two.knots:
-            raise InvalidOperation("webs with unlike numbers of knots")
         answer = self._right_answer(name, other)
         if answer is None:
-            answer = kin_or_bar(one, two)
+            # Webs with unlike numbers of knots are refused here.
+            answer = kin_or_bar(self._webs[name], self._webs[other])
             self._answers[(name, other)] = answer
         return answer
 

@@ -1,9 +1,9 @@
 """Counts of lots and of choices by their nullities, and the lesser webs whose counts they are."""
 
 from tiedanew.base.checks import are_below, is_whole, ones_of
-from tiedanew.errors import InvalidNumber, InvalidOperation, Refused, TooMany
+from tiedanew.errors import InvalidNumber, InvalidOperation, TooMany
 from tiedanew.web.choices import counts_of_choices, nullity, nullity_of_choices
-from tiedanew.web.webs import check_knot, check_lot, check_web, left_out, masks_of, near, swung, turned
+from tiedanew.web.webs import check_lot, check_web, left_out, masks_of, swung, turned
 
 MOST_CHOSEN = 8
 MOST_FREE = 6
@@ -50,20 +50,10 @@ def choice_counts(web):
     return counts_of_choices(masks_of(web))
 
 
-def _check_tied(web, knot, other):
-    check_web(web)
-    check_knot(web, knot)
-    check_knot(web, other)
-    if knot == other:
-        raise InvalidOperation("a web is lessened along a tie of two knots")
-    if other not in near(web, knot):
-        raise Refused(("untied",))
-
-
 def lessened(web, knot, other):
     """The web, and the web swung at both knots, each without the knot."""
-    _check_tied(web, knot, other)
-    return (left_out(web, knot), left_out(swung(web, knot, other), knot))
+    behind = swung(web, knot, other)
+    return (left_out(web, knot), left_out(behind, knot))
 
 
 def lessened_thrice(web, knot, other):

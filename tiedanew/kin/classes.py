@@ -86,10 +86,8 @@ def are_all_kin(web, value):
     if not all([isinstance(kin, Web) for kin in value]):
         return False
     told, first = {tuple(masks_of(kin)): True for kin in value}, tuple(masks_of(web))
-    if len(told) != len(value) or first not in told:
-        return False
     # As many unlike ones as there are kin are all of them if they are kin: then turns among them lead to each.
-    return len(_reached(first, lambda masks: masks in told)) == len(value)
+    return first in told and len(_reached(first, lambda masks: masks in told)) == len(value)
 
 
 def _check_few(one, other):

@@ -191,6 +191,6 @@ def is_web_in(full, value):
     if not isinstance(value, tuple) or len(value) != 2:
         return False
     changes, web = value
-    if not are_changes(changes, len(full)) or not isinstance(web, Web) or web.knots != len(full):
+    if not are_changes(changes, len(full)) or not isinstance(web, Web):
         return False
     return _form(changed(full, changes)) == _form(lot_of(web))

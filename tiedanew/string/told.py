@@ -7,7 +7,7 @@ from tiedanew.kin.members import member_of
 from tiedanew.kin.sums import are_kin
 from tiedanew.string.lots import are_changes, are_same, changed, check_full, lot_of, web_in
 from tiedanew.string.rows import form_by, held_strings, is_string, rows_with, string_by, unlike_bits
-from tiedanew.web.webs import Web, beyond_lot, check_knot, check_lot, check_web, left_out, near, turned_by
+from tiedanew.web.webs import beyond_lot, check_knot, check_lot, check_web, left_out, near, turned_by
 
 MOST_TOLD = 4
 
@@ -103,9 +103,7 @@ def is_web_told(web, knot, letter, value):
     if not isinstance(value, tuple) or len(value) != 2:
         return False
     changes, left = value
-    if not are_changes(changes, web.knots - 1) or not isinstance(left, Web):
-        return False
-    if left != left_out(turned_by(web, _turns_for(web, knot, letter)), knot):
+    if not are_changes(changes, web.knots - 1) or left != web_told(web, knot, letter)[1]:
         return False
     return are_same(changed(told_at(lot_of(web), knot, letter), changes), lot_of(left))
 

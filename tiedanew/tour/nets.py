@@ -97,14 +97,13 @@ def is_tour(net, value):
 
 
 def check_tour(net, value):
-    """InvalidTour unless the value is a tour of the net."""
+    """InvalidWeb unless it is a net, then InvalidTour unless the value is a tour of it."""
     if not is_tour(net, value):
         raise InvalidTour("a tour goes once along each line, the first one being (0, 0)")
 
 
 def ring_of(net, tour):
     """The knots at which the steps of the tour begin."""
-    check_net(net)
     check_tour(net, tour)
     return tuple([begin_of(net, step) for step in tour])
 

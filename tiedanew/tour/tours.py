@@ -51,15 +51,10 @@ def _turns_between(net, tour, other):
     return turns_by(_web_of_tour(net, tour), _letters_to(net, tour, other))
 
 
-def _check_both(net, tour, other):
-    check_net(net)
-    check_tour(net, tour)
-    check_tour(net, other)
-
-
 def turns_to(net, tour, other):
     """A row of turns from the tour to the other one."""
-    _check_both(net, tour, other)
+    check_tour(net, tour)
+    check_tour(net, other)
     return _turns_between(net, tour, other)
 
 
@@ -70,7 +65,8 @@ def _is_row(value, many):
 
 def is_turns_to(net, tour, other, value):
     """Whether the value is a row of at most 200 turns from the tour to the other one."""
-    _check_both(net, tour, other)
+    check_tour(net, tour)
+    check_tour(net, other)
     if not _is_row(value, net.knots):
         return False
     behind = tour
@@ -166,7 +162,7 @@ def is_turns_or_pair(ring, other, value):
     word, told = value
     if word == "turns":
         return _do_turns_lead(ring, other, told)
-    if word != "pair" or not are_below(told, len(ring) // 2) or len(told) != 2 or told[0] > told[1]:
+    if word != "pair" or not are_below(told, len(ring) // 2):
         return False
     return _pairs_around(ring).get(told, 0) != _pairs_around(other).get(told, 0)
 
