@@ -401,6 +401,21 @@ class Answers(BenchCase):
             self.same(bench.known("a", "b"), cut)
             self.same(bench.ask("a", "b"), cut)
 
+    def test_kin_webs_stay_kin(self):
+        """Under turns and swings of either [22.3]; what is told is right each time."""
+        draw = random.Random(2203)
+        for web in (PATH, ROUND, full_web(5), Web(5, ((0, 1), (0, 2), (3, 4)))):
+            bench = bench_with(("a", web), ("b", turned(web, 2)))
+            for _ in range(15):
+                name = draw.choice("ab")
+                if draw.random() < 0.5:
+                    bench.turn(name, draw.randrange(web.knots))
+                else:
+                    bench.swing(name, *draw.choice(bench.web_of(name).ties))
+                answer = bench.ask("a", "b")
+                self.same(answer[0], "turns")
+                self.assertTrue(slow_is_right(bench.web_of("a"), bench.web_of("b"), answer))
+
     def test_turns_told_anew(self):
         """Behind the same turn of both webs: turns back, the row, the turn."""
         draw = random.Random(2202)

@@ -241,6 +241,7 @@ class Named(Case):
         draw, words = random.Random(1607), []
         for web in FIVES[::3] + SIXES[::3] + [WHEEL]:
             self.assertTrue(self.asked(web, drawn_kin(draw, drawn_renamed(draw, web))))
+            self.assertTrue(self.asked(web, web))
             words.append(self.asked(web, drawn_web(draw, web.knots)))
         self.assertIn(False, words)
 

@@ -183,7 +183,7 @@ def signed_table(ring):
 
 def _line_table(net):
     lines = list(net.lines)
-    knots = range(1, net.knots)
+    knots = list(range(1, net.knots))
     return tuple([tuple([(2 if v == w else 0) - lines.count((v, w)) for w in knots]) for v in knots])
 
 
